@@ -1,0 +1,210 @@
+// Package rules holds the program's text against the rules of its language and against the map of its layers.
+package rules
+
+import (
+	"bytes"
+	"go/ast"
+	"go/format"
+	"go/parser"
+	"go/token"
+	"os"
+	"path/filepath"
+	"slices"
+	"strings"
+	"testing"
+)
+
+// layers: the packages from the lowest layer on; each may call those that stand ahead of it.
+var layers = []string{
+	"api", "bits", "limb", "nat", "digits", "rat", "rtext", "delta", "lin", "atom", "intern", "logic", "sexp", "clause", "smt",
+	"net", "prop", "span", "cnf", "encode", "farkas", "simplex", "proof", "search", "compact", "alethe", "check", "verify",
+}
+
+// library: what may be taken of Go's own packages.
+var library = []string{
+	"bytes", "cmp", "container/heap", "errors", "iter", "maps", "math", "math/bits", "slices", "sort", "strconv", "strings",
+	"sync", "sync/atomic", "unicode", "unicode/utf8",
+}
+
+const longest = 60
+
+// source is one Go file of the program.
+type source struct {
+	path string // below the project's folder
+	pack string // the folder that it stands in
+	text []byte
+	tree *ast.File
+	set  *token.FileSet
+}
+
+func (s source) lines(n ast.Node) int {
+	return s.set.Position(n.End()).Line - s.set.Position(n.Pos()).Line + 1
+}
+
+// sources: the program's files; tests are left out, for they may use all of Go.
+func sources(t *testing.T) []source {
+	paths, err := filepath.Glob("../*/*.go")
+	if err != nil {
+		t.Fatal(err)
+	}
+	var out []source
+	for _, path := range paths {
+		if strings.HasSuffix(path, "_test.go") {
+			continue
+		}
+		text, err := os.ReadFile(path)
+		if err != nil {
+			t.Fatal(err)
+		}
+		set := token.NewFileSet()
+		tree, err := parser.ParseFile(set, path, text, parser.ParseComments)
+		if err != nil {
+			t.Fatal(err)
+		}
+		out = append(out, source{path, filepath.Base(filepath.Dir(path)), text, tree, set})
+	}
+	return out
+}
+
+func TestEveryLayerIsThere(t *testing.T) {
+	var found []string
+	for _, s := range sources(t) {
+		found = append(found, s.pack)
+		if s.tree.Name.Name != s.pack {
+			t.Errorf("%s is of package %s", s.path, s.tree.Name.Name)
+		}
+	}
+	for _, layer := range layers {
+		if !slices.Contains(found, layer) {
+			t.Errorf("layer %s is missing", layer)
+		}
+	}
+}
+
+func TestImports(t *testing.T) {
+	for _, s := range sources(t) {
+		for _, spec := range s.tree.Imports {
+			path := strings.Trim(spec.Path.Value, `"`)
+			own, isOwn := strings.CutPrefix(path, "attest/")
+			switch {
+			case isOwn && above(own, s.pack):
+				t.Errorf("%s calls %s, which isn't below it", s.path, own)
+			case !isOwn && !slices.Contains(library, path):
+				t.Errorf("%s imports %s", s.path, path)
+			case spec.Name != nil && (spec.Name.Name == "." || spec.Name.Name == "_"):
+				t.Errorf("%s imports %s as %s", s.path, path, spec.Name.Name)
+			}
+		}
+	}
+}
+
+// above: are both layers, and does the one that is called stand no lower than its caller?
+func above(called, caller string) bool {
+	from, to := slices.Index(layers, caller), slices.Index(layers, called)
+	return from >= 0 && to >= from
+}
+
+func TestLayout(t *testing.T) {
+	for _, s := range sources(t) {
+		want, err := format.Source(s.text)
+		if err != nil || !bytes.Equal(s.text, want) {
+			t.Errorf("%s isn't in gofmt's layout", s.path)
+		}
+	}
+}
+
+func TestFunctionsAreShort(t *testing.T) {
+	for _, s := range sources(t) {
+		for _, d := range s.tree.Decls {
+			f, ok := d.(*ast.FuncDecl)
+			if !ok {
+				continue
+			}
+			if n := s.lines(f); n > longest {
+				t.Errorf("%s: %s has %d lines", s.path, f.Name.Name, n)
+			}
+			if f.Name.Name == "init" {
+				t.Errorf("%s has start-up code", s.path)
+			}
+			if f.Body == nil {
+				t.Errorf("%s: %s has no body", s.path, f.Name.Name)
+			}
+		}
+	}
+}
+
+func TestNoDirectives(t *testing.T) {
+	for _, s := range sources(t) {
+		for _, group := range s.tree.Comments {
+			for _, c := range group.List {
+				if strings.HasPrefix(c.Text, "//go:") || strings.HasPrefix(c.Text, "// +build") {
+					t.Errorf("%s: %s", s.path, c.Text)
+				}
+			}
+		}
+	}
+}
+
+func TestPackageVariablesHaveValues(t *testing.T) {
+	for _, s := range sources(t) {
+		for _, d := range s.tree.Decls {
+			g, ok := d.(*ast.GenDecl)
+			if !ok || g.Tok != token.VAR {
+				continue
+			}
+			for _, spec := range g.Specs {
+				if v := spec.(*ast.ValueSpec); len(v.Values) != len(v.Names) {
+					t.Errorf("%s: %s has no value of its own", s.path, v.Names[0].Name)
+				}
+			}
+		}
+	}
+}
+
+func TestPackagesHoldGoFilesAlone(t *testing.T) {
+	for _, layer := range layers {
+		entries, err := os.ReadDir(filepath.Join("..", layer))
+		if err != nil {
+			t.Fatal(err)
+		}
+		for _, e := range entries {
+			if !strings.HasSuffix(e.Name(), ".go") {
+				t.Errorf("%s/%s", layer, e.Name())
+			}
+		}
+	}
+}
+
+// TestWaysOfWords: words, limbs and bytes are made of one another by shifts and conversions of fixed width.
+func TestWaysOfWords(t *testing.T) {
+	for _, s := range sources(t) {
+		if s.pack != "bits" && s.pack != "limb" {
+			continue
+		}
+		shifts, conversions := countWays(s.tree)
+		for _, kind := range []string{"uint8", "uint32", "uint64"} {
+			if conversions[kind] == 0 {
+				t.Errorf("%s converts nothing to %s", s.path, kind)
+			}
+		}
+		if shifts[token.SHL] == 0 || shifts[token.SHR] == 0 {
+			t.Errorf("%s doesn't shift both ways", s.path)
+		}
+	}
+}
+
+func countWays(tree *ast.File) (map[token.Token]int, map[string]int) {
+	shifts, conversions := map[token.Token]int{}, map[string]int{}
+	ast.Inspect(tree, func(n ast.Node) bool {
+		switch n := n.(type) {
+		case *ast.BinaryExpr:
+			shifts[n.Op]++
+		case *ast.CallExpr:
+			if name, ok := n.Fun.(*ast.Ident); ok && len(n.Args) == 1 {
+				conversions[name.Name]++
+			}
+		}
+		return true
+	})
+	return shifts, conversions
+}
