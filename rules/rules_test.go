@@ -177,34 +177,36 @@ func TestPackagesHoldGoFilesAlone(t *testing.T) {
 
 // TestWaysOfWords: words, limbs and bytes are made of one another by shifts and conversions of fixed width.
 func TestWaysOfWords(t *testing.T) {
+	kinds := map[string][]string{
+		"bits": {"uint8", "uint32", "uint64"}, "limb": {"uint8", "uint32", "uint64"}, "nat": {"uint32", "uint64"},
+	}
+	shifts, conversions := map[string]int{}, map[string]int{}
 	for _, s := range sources(t) {
-		if s.pack != "bits" && s.pack != "limb" {
-			continue
-		}
-		shifts, conversions := countWays(s.tree)
-		for _, kind := range []string{"uint8", "uint32", "uint64"} {
-			if conversions[kind] == 0 {
-				t.Errorf("%s converts nothing to %s", s.path, kind)
+		countWays(s, shifts, conversions)
+	}
+	for pack, wanted := range kinds {
+		for _, kind := range wanted {
+			if conversions[pack+" "+kind] == 0 {
+				t.Errorf("%s converts nothing to %s", pack, kind)
 			}
 		}
-		if shifts[token.SHL] == 0 || shifts[token.SHR] == 0 {
-			t.Errorf("%s doesn't shift both ways", s.path)
+		if shifts[pack+" <<"] == 0 || shifts[pack+" >>"] == 0 {
+			t.Errorf("%s doesn't shift both ways", pack)
 		}
 	}
 }
 
-func countWays(tree *ast.File) (map[token.Token]int, map[string]int) {
-	shifts, conversions := map[token.Token]int{}, map[string]int{}
-	ast.Inspect(tree, func(n ast.Node) bool {
+// countWays counts a file's operators and its calls of one argument, conversions among them, by package and name.
+func countWays(s source, operators, calls map[string]int) {
+	ast.Inspect(s.tree, func(n ast.Node) bool {
 		switch n := n.(type) {
 		case *ast.BinaryExpr:
-			shifts[n.Op]++
+			operators[s.pack+" "+n.Op.String()]++
 		case *ast.CallExpr:
 			if name, ok := n.Fun.(*ast.Ident); ok && len(n.Args) == 1 {
-				conversions[name.Name]++
+				calls[s.pack+" "+name.Name]++
 			}
 		}
 		return true
 	})
-	return shifts, conversions
 }
