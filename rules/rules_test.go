@@ -20,6 +20,12 @@ var layers = []string{
 	"net", "prop", "span", "cnf", "encode", "farkas", "simplex", "proof", "search", "compact", "alethe", "check", "verify",
 }
 
+// calls: of the layers that are built, those that each may call beside api.
+var calls = map[string][]string{
+	"api": {}, "bits": {}, "limb": {}, "nat": {"limb"}, "digits": {"limb", "nat"}, "rat": {"limb", "nat"},
+	"rtext": {"limb", "nat", "digits", "rat"}, "delta": {"rat"}, "lin": {"rat"},
+}
+
 // library: what may be taken of Go's own packages.
 var library = []string{
 	"bytes", "cmp", "container/heap", "errors", "iter", "maps", "math", "math/bits", "slices", "sort", "strconv", "strings",
@@ -102,6 +108,18 @@ func TestImports(t *testing.T) {
 func above(called, caller string) bool {
 	from, to := slices.Index(layers, caller), slices.Index(layers, called)
 	return from >= 0 && to >= from
+}
+
+func TestCalls(t *testing.T) {
+	for _, s := range sources(t) {
+		allowed, built := calls[s.pack]
+		for _, spec := range s.tree.Imports {
+			called, isOwn := strings.CutPrefix(strings.Trim(spec.Path.Value, `"`), "attest/")
+			if isOwn && built && called != "api" && !slices.Contains(allowed, called) {
+				t.Errorf("%s calls %s, which the map doesn't say", s.path, called)
+			}
+		}
+	}
 }
 
 func TestLayout(t *testing.T) {
