@@ -23,7 +23,7 @@ var layers = []string{
 // calls: of the layers that are built, those that each may call beside api.
 var calls = map[string][]string{
 	"api": {}, "bits": {}, "limb": {}, "nat": {"limb"}, "digits": {"limb", "nat"}, "rat": {"limb", "nat"},
-	"rtext": {"limb", "nat", "digits", "rat"}, "delta": {"rat"}, "lin": {"rat"},
+	"rtext": {"limb", "nat", "digits", "rat"}, "delta": {"rat"}, "lin": {"rat"}, "atom": {"rat", "rtext", "lin"}, "intern": {},
 }
 
 // library: what may be taken of Go's own packages.
@@ -227,4 +227,28 @@ func countWays(s source, operators, calls map[string]int) {
 		}
 		return true
 	})
+}
+
+// TestWaysOfKeys: what is the same is found in maps whose keys are structs of the package.
+func TestWaysOfKeys(t *testing.T) {
+	structs, keys := map[string]bool{}, map[string][]string{}
+	for _, s := range sources(t) {
+		ast.Inspect(s.tree, func(n ast.Node) bool {
+			switch n := n.(type) {
+			case *ast.TypeSpec:
+				_, isStruct := n.Type.(*ast.StructType)
+				structs[s.pack+" "+n.Name.Name] = isStruct
+			case *ast.MapType:
+				if key, ok := n.Key.(*ast.Ident); ok {
+					keys[s.pack] = append(keys[s.pack], s.pack+" "+key.Name)
+				}
+			}
+			return true
+		})
+	}
+	for _, pack := range []string{"atom", "intern"} {
+		if !slices.ContainsFunc(keys[pack], func(key string) bool { return structs[key] }) {
+			t.Errorf("%s has no map whose keys are structs", pack)
+		}
+	}
 }
