@@ -24,6 +24,7 @@ var layers = []string{
 var calls = map[string][]string{
 	"api": {}, "bits": {}, "limb": {}, "nat": {"limb"}, "digits": {"limb", "nat"}, "rat": {"limb", "nat"},
 	"rtext": {"limb", "nat", "digits", "rat"}, "delta": {"rat"}, "lin": {"rat"}, "atom": {"rat", "rtext", "lin"}, "intern": {},
+	"logic": {"intern"}, "sexp": {},
 }
 
 // library: what may be taken of Go's own packages.
@@ -251,4 +252,44 @@ func TestWaysOfKeys(t *testing.T) {
 			t.Errorf("%s has no map whose keys are structs", pack)
 		}
 	}
+}
+
+// TestWaysOfFormulas: a formula is gone through with a closure, and counts are ranged over.
+func TestWaysOfFormulas(t *testing.T) {
+	closures, counts := 0, 0
+	for _, s := range sources(t) {
+		if s.pack != "logic" {
+			continue
+		}
+		ast.Inspect(s.tree, func(n ast.Node) bool {
+			switch n := n.(type) {
+			case *ast.FuncLit:
+				closures++
+			case *ast.RangeStmt:
+				if isCount(n.X) {
+					counts++
+				}
+			}
+			return true
+		})
+	}
+	if closures == 0 || counts == 0 {
+		t.Errorf("logic has %d closures and ranges over %d counts", closures, counts)
+	}
+}
+
+// isCount: is it a number written out, or what len or a method Len answers?
+func isCount(x ast.Expr) bool {
+	switch x := x.(type) {
+	case *ast.BasicLit:
+		return x.Kind == token.INT
+	case *ast.CallExpr:
+		switch f := x.Fun.(type) {
+		case *ast.Ident:
+			return f.Name == "len"
+		case *ast.SelectorExpr:
+			return f.Sel.Name == "Len"
+		}
+	}
+	return false
 }
