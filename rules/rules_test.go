@@ -24,7 +24,7 @@ var layers = []string{
 var calls = map[string][]string{
 	"api": {}, "bits": {}, "limb": {}, "nat": {"limb"}, "digits": {"limb", "nat"}, "rat": {"limb", "nat"},
 	"rtext": {"limb", "nat", "digits", "rat"}, "delta": {"rat"}, "lin": {"rat"}, "atom": {"rat", "rtext", "lin"}, "intern": {},
-	"logic": {"intern"}, "sexp": {},
+	"logic": {"intern"}, "sexp": {}, "clause": {"bits"}, "smt": {"rat", "rtext", "lin", "atom", "sexp", "clause"},
 }
 
 // library: what may be taken of Go's own packages.
@@ -247,10 +247,38 @@ func TestWaysOfKeys(t *testing.T) {
 			return true
 		})
 	}
-	for _, pack := range []string{"atom", "intern"} {
+	for _, pack := range []string{"atom", "intern", "clause"} {
 		if !slices.ContainsFunc(keys[pack], func(key string) bool { return structs[key] }) {
 			t.Errorf("%s has no map whose keys are structs", pack)
 		}
+	}
+}
+
+// TestWaysOfClauses: they are found by a struct with an array in it, and put in order.
+func TestWaysOfClauses(t *testing.T) {
+	arrays, sorted := 0, 0
+	for _, s := range sources(t) {
+		if s.pack != "clause" {
+			continue
+		}
+		ast.Inspect(s.tree, func(n ast.Node) bool {
+			switch n := n.(type) {
+			case *ast.StructType:
+				for _, f := range n.Fields.List {
+					if a, ok := f.Type.(*ast.ArrayType); ok && a.Len != nil {
+						arrays++
+					}
+				}
+			case *ast.SelectorExpr:
+				if strings.HasPrefix(n.Sel.Name, "Sort") {
+					sorted++
+				}
+			}
+			return true
+		})
+	}
+	if arrays == 0 || sorted == 0 {
+		t.Errorf("clause has %d arrays in structs and sorts %d times", arrays, sorted)
 	}
 }
 
