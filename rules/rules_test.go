@@ -25,6 +25,7 @@ var calls = map[string][]string{
 	"api": {}, "bits": {}, "limb": {}, "nat": {"limb"}, "digits": {"limb", "nat"}, "rat": {"limb", "nat"},
 	"rtext": {"limb", "nat", "digits", "rat"}, "delta": {"rat"}, "lin": {"rat"}, "atom": {"rat", "rtext", "lin"}, "intern": {},
 	"logic": {"intern"}, "sexp": {}, "clause": {"bits"}, "smt": {"rat", "rtext", "lin", "atom", "sexp", "clause"},
+	"net": {"rat", "rtext"}, "prop": {"rat", "rtext", "lin", "atom", "logic", "sexp"},
 }
 
 // library: what may be taken of Go's own packages.
@@ -303,6 +304,29 @@ func TestWaysOfFormulas(t *testing.T) {
 	}
 	if closures == 0 || counts == 0 {
 		t.Errorf("logic has %d closures and ranges over %d counts", closures, counts)
+	}
+}
+
+// TestWaysOfTexts: words of networks' and properties' texts are found in maps, places looked at by closures.
+func TestWaysOfTexts(t *testing.T) {
+	words, closures := map[string]int{}, map[string]int{}
+	for _, s := range sources(t) {
+		ast.Inspect(s.tree, func(n ast.Node) bool {
+			switch n := n.(type) {
+			case *ast.MapType:
+				if key, ok := n.Key.(*ast.Ident); ok && key.Name == "string" {
+					words[s.pack]++
+				}
+			case *ast.FuncLit:
+				closures[s.pack]++
+			}
+			return true
+		})
+	}
+	for _, pack := range []string{"net", "prop"} {
+		if words[pack] == 0 || closures[pack] == 0 {
+			t.Errorf("%s has %d maps of words and %d closures", pack, words[pack], closures[pack])
+		}
 	}
 }
 
