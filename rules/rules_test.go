@@ -26,6 +26,7 @@ var calls = map[string][]string{
 	"rtext": {"limb", "nat", "digits", "rat"}, "delta": {"rat"}, "lin": {"rat"}, "atom": {"rat", "rtext", "lin"}, "intern": {},
 	"logic": {"intern"}, "sexp": {}, "clause": {"bits"}, "smt": {"rat", "rtext", "lin", "atom", "sexp", "clause"},
 	"net": {"rat", "rtext"}, "prop": {"rat", "rtext", "lin", "atom", "logic", "sexp"},
+	"span": {"rat", "net"}, "cnf": {"intern", "logic", "clause"},
 }
 
 // library: what may be taken of Go's own packages.
@@ -327,6 +328,37 @@ func TestWaysOfTexts(t *testing.T) {
 		if words[pack] == 0 || closures[pack] == 0 {
 			t.Errorf("%s has %d maps of words and %d closures", pack, words[pack], closures[pack])
 		}
+	}
+}
+
+// TestWaysOfParts: the parts' variables lie in a map whose keys are arrays, and clauses are added by closures of any number of literals.
+func TestWaysOfParts(t *testing.T) {
+	arrays, keys, adders := map[string]bool{}, []string{}, 0
+	for _, s := range sources(t) {
+		if s.pack != "cnf" {
+			continue
+		}
+		ast.Inspect(s.tree, func(n ast.Node) bool {
+			switch n := n.(type) {
+			case *ast.TypeSpec:
+				a, isArray := n.Type.(*ast.ArrayType)
+				arrays[n.Name.Name] = isArray && a.Len != nil
+			case *ast.MapType:
+				if key, ok := n.Key.(*ast.Ident); ok {
+					keys = append(keys, key.Name)
+				}
+			case *ast.FuncLit:
+				if l := n.Type.Params.List; len(l) == 1 {
+					if _, ok := l[0].Type.(*ast.Ellipsis); ok {
+						adders++
+					}
+				}
+			}
+			return true
+		})
+	}
+	if !slices.ContainsFunc(keys, func(key string) bool { return arrays[key] }) || adders == 0 {
+		t.Errorf("cnf has maps of %v and %d closures of any number of literals", keys, adders)
 	}
 }
 
